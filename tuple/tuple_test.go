@@ -10,14 +10,11 @@ import (
 	"unsafe"
 
 	"shelfmark/api"
+	"shelfmark/sample"
 	"shelfmark/tuple"
 )
 
-func null() api.Val { return api.Val{} }
-
-func number(n int) api.Val { return api.Val{Kind: api.Int, N: n} }
-
-func text(s string) api.Val { return api.Val{Kind: api.Text, S: s} }
+var null, number, text = sample.Null, sample.Int, sample.Text
 
 // ints are at the edges of the order, and of each byte of an Int's bytes, rising.
 func ints() []int {
@@ -123,26 +120,6 @@ func risingRows() [][]api.Val {
 		}
 	}
 	return l
-}
-
-// keyOf is a row's key by other means than the package's, so that it leans on nothing of it.
-func keyOf(l []api.Val) string {
-	s := ""
-	for _, v := range l {
-		switch v.Kind {
-		case api.Null:
-			s += "\x01"
-		case api.Int:
-			high, low := v.N>>32+1<<31, v.N&(1<<32-1)
-			s += "\x02"
-			for _, half := range []int{high, low} {
-				s += string([]byte{byte(half / (1 << 24)), byte(half / (1 << 16) % 256), byte(half / (1 << 8) % 256), byte(half % 256)})
-			}
-		case api.Text:
-			s += "\x03" + strings.ReplaceAll(v.S, "\x00", "\x00\xff") + "\x00\x00"
-		}
-	}
-	return s
 }
 
 // cutOf is what Cut has to answer, by an automaton that goes byte by byte, and no further than the byte that decides.
@@ -330,8 +307,8 @@ func TestKeyIsTheBytesOfTheValues(t *testing.T) {
 		}
 	}
 	for _, l := range manyRows() {
-		if got, e := tuple.Key(l); got != keyOf(l) || e != api.OK {
-			t.Errorf("Key(%#v) = %x %d, not %x", l, got, e, keyOf(l))
+		if got, e := tuple.Key(l); got != sample.RowKey(l) || e != api.OK {
+			t.Errorf("Key(%#v) = %x %d, not %x", l, got, e, sample.RowKey(l))
 		}
 	}
 }
@@ -362,7 +339,7 @@ func TestKeyErrors(t *testing.T) {
 
 func TestCutReadsWhatKeyWrites(t *testing.T) {
 	for _, want := range manyRows() {
-		form := keyOf(want)
+		form := sample.RowKey(want)
 		for _, behind := range []string{"", "\x00", "\x00\x00", "\x00x", "\x00\xff\x01", "\x00\x04"} {
 			l, rest, e := tuple.Cut(form + behind)
 			if !slices.Equal(l, want) || rest != behind || e != api.OK {
@@ -480,7 +457,7 @@ func TestCutOfSpoiltKeys(t *testing.T) {
 		{text("\x00"), text(""), text("\xff\x00"), text(strings.Repeat("x", api.MaxText))},
 		{null(), number(0)},
 	} {
-		key := keyOf(l)
+		key := sample.RowKey(l)
 		for i := range len(key) {
 			checkCut(t, key[:i])
 			checkCut(t, key[i:])
@@ -641,7 +618,7 @@ func TestWhatIsHandedInStays(t *testing.T) {
 
 func TestWhatLiesBehindTheLengthIsNotRead(t *testing.T) {
 	one, _ := inRoom(t, number(1))
-	if s, e := tuple.Key(one); s != keyOf([]api.Val{number(1)}) || e != api.OK {
+	if s, e := tuple.Key(one); s != sample.RowKey([]api.Val{number(1)}) || e != api.OK {
 		t.Errorf("Key read on: %x %d", s, e)
 	}
 	if got := tuple.Compare(one, []api.Val{number(1), null()}); got != -1 {
@@ -682,7 +659,7 @@ func TestWhatIsAnsweredIsNew(t *testing.T) {
 
 func TestAnswersShareNothing(t *testing.T) {
 	for _, row := range [][]api.Val{nil, {null()}, {number(1), text("a")}, {null(), number(2), text("b\x00"), null()}} {
-		s := keyOf(row)
+		s := sample.RowKey(row)
 		one, _, _ := tuple.Cut(s)
 		two, _, _ := tuple.Cut(s)
 		three, _ := tuple.Vals(s)
@@ -702,7 +679,7 @@ func TestAnswersShareNothing(t *testing.T) {
 func TestKeyKeepsNoMemoryOfItsRow(t *testing.T) {
 	b := []byte("text")
 	l := []api.Val{number(1), text(unsafe.String(&b[0], len(b)))}
-	want := keyOf(l)
+	want := sample.RowKey(l)
 	key, _ := tuple.Key(l)
 	if share(key, l[1].S) {
 		t.Error("the key lies in the row's text")
