@@ -1,7 +1,6 @@
 package record_test
 
 import (
-	"cmp"
 	"math"
 	"slices"
 	"strings"
@@ -14,69 +13,6 @@ import (
 )
 
 var null, number, text = sample.Null, sample.Int, sample.Text
-
-// vals are good values, rising.
-func vals() []api.Val {
-	l := []api.Val{null()}
-	for _, n := range []int{math.MinInt, -1, 0, 1, 255, 256, math.MaxInt} {
-		l = append(l, number(n))
-	}
-	for _, s := range []string{"", "\x00", "\x00\x00", "\x00\xff", "\x01", "a", "a\x00", "a\x00b", "ab", strings.Repeat("b", api.MaxText), "ä", "\xff", "\xff\xff"} {
-		l = append(l, text(s))
-	}
-	return l
-}
-
-// badVals are values that may not be.
-func badVals() []api.Val {
-	return []api.Val{
-		{Kind: api.Null, N: 1},
-		{Kind: api.Null, S: "a"},
-		{Kind: api.Int, S: "a"},
-		{Kind: api.Int, N: 7, S: "\x00"},
-		{Kind: api.Text, N: 1},
-		{Kind: api.Text, N: -1, S: "a"},
-		{Kind: api.Text, S: strings.Repeat("a", api.MaxText+1)},
-		{Kind: api.Text, S: strings.Repeat("a", 100000)},
-		{Kind: -1},
-		{Kind: 3},
-		{Kind: 257},
-		{Kind: 1 << 32},
-		{Kind: math.MinInt, N: 1},
-		{Kind: math.MaxInt, S: "a"},
-	}
-}
-
-// records are right ones, of all lengths.
-func records() []api.Record {
-	var l []api.Record
-	all := vals()
-	for i, v := range all {
-		w, x := all[(i*5+3)%len(all)], all[(i*7+2)%len(all)]
-		l = append(l, api.Record{v}, api.Record{v, w}, api.Record{w, null(), v}, api.Record{v, w, x}, api.Record{x, v, null(), w}, api.Record{w, x, v, v})
-	}
-	return append(l, api.Record{null(), null(), null(), null()})
-}
-
-// largeRecords have too many fields, some of them such that may not be.
-func largeRecords() []api.Record {
-	bad := badVals()[0]
-	return []api.Record{
-		slices.Repeat([]api.Val{null()}, api.MaxFields+1),
-		slices.Repeat([]api.Val{bad}, api.MaxFields+1),
-		{number(1), number(2), number(3), number(4), bad},
-		slices.Repeat([]api.Val{text("a")}, 100000),
-	}
-}
-
-// badRecords have fields that may not be.
-func badRecords() []api.Record {
-	var l []api.Record
-	for _, v := range badVals() {
-		l = append(l, api.Record{v}, api.Record{v, null()}, api.Record{number(1), v}, api.Record{text("a"), null(), number(3), v}, api.Record{v, v, v, v})
-	}
-	return l
-}
 
 // lists are all lists of up to most numbers out of those given, the shorter ones first.
 func lists(most int, numbers ...int) [][]int {
@@ -93,23 +29,10 @@ func lists(most int, numbers ...int) [][]int {
 	return all
 }
 
-// fieldLists are those that an index may be of.
-func fieldLists() [][]int {
-	return [][]int{
-		{0}, {1}, {2}, {3},
-		{0, 1}, {0, 2}, {0, 3}, {1, 0}, {1, 2}, {1, 3}, {2, 0}, {2, 1}, {2, 3}, {3, 0}, {3, 1}, {3, 2},
-	}
-}
-
-// badIds are no Id of an index.
-func badIds() []int {
-	return []int{0, -1, -5, api.MaxIndexes + 1, 255, 256, 257, 1 << 16, 1<<16 + 1, 1<<32 + 1, math.MinInt, math.MinInt + 1, math.MaxInt}
-}
-
 // shown are rows that an index of one field or two can be shown, rising.
 func shown() [][]api.Val {
 	var l [][]api.Val
-	all := vals()[1:]
+	all := sample.Vals()[1:]
 	for _, v := range all {
 		l = append(l, []api.Val{v})
 		for _, w := range all {
@@ -119,67 +42,10 @@ func shown() [][]api.Val {
 	return l
 }
 
-// keys are right ones, rising.
-func keys() []string {
-	return []string{"\x00", "\x00\x00", "\x00\xff", "\x01", "0123456789abcdef", "a", "a\x00", "k", "ä", strings.Repeat("\xff", api.MaxKey)}
-}
-
-// badKeys are none.
-func badKeys() []string {
-	return []string{"", strings.Repeat("k", api.MaxKey+1), strings.Repeat("\x00", api.MaxKey+1), strings.Repeat("ä", api.MaxKey/2) + "k", strings.Repeat("k", 100000)}
-}
-
-// entryOf is an entry by other means than the package's.
-func entryOf(id int, l []api.Val, key string) string {
-	return "\x00" + string([]byte{byte(id)}) + sample.RowKey(l) + "\x00" + key
-}
-
-// stand tells how two rows of good values stand, value by value.
-func stand(a, b []api.Val) int {
-	for i := range min(len(a), len(b)) {
-		v, w := a[i], b[i]
-		if v == w {
-			continue
-		}
-		if v.Kind != w.Kind {
-			return cmp.Compare(v.Kind, w.Kind)
-		}
-		if v.Kind == api.Int {
-			return cmp.Compare(v.N, w.N)
-		}
-		return cmp.Compare(v.S, w.S)
-	}
-	return cmp.Compare(len(a), len(b))
-}
-
-// liesIn tells whether a row lies in an area, by the words of the document.
-func liesIn(l, low, high []api.Val) bool {
-	if stand(l, low) < 0 {
-		return false
-	}
-	if len(l) > len(high) {
-		l = l[:len(high)]
-	}
-	return stand(l, high) <= 0
-}
-
-// borders are rows that areas can begin and end with: also none, Null, and more values than an index is of.
-func borders() [][]api.Val {
-	few := []api.Val{null(), number(math.MinInt), number(2), number(math.MaxInt), text(""), text("\x00"), text("a"), text("a\x00"), text("\xff")}
-	l := [][]api.Val{nil, {}}
-	for _, v := range few {
-		l = append(l, []api.Val{v}, []api.Val{v, null(), null()}, []api.Val{v, text("a"), number(1), text("\xff")})
-		for _, w := range few {
-			l = append(l, []api.Val{v, w})
-		}
-	}
-	return l
-}
-
 // P4.1
 
 func TestKey(t *testing.T) {
-	for _, s := range keys() {
+	for _, s := range sample.Keys() {
 		if !record.Key(s) {
 			t.Errorf("%q is no key", s)
 		}
@@ -191,7 +57,7 @@ func TestKey(t *testing.T) {
 			}
 		}
 	}
-	for _, s := range badKeys() {
+	for _, s := range sample.BadKeys() {
 		if record.Key(s) {
 			t.Errorf("a text of %d bytes is a key", len(s))
 		}
@@ -199,7 +65,7 @@ func TestKey(t *testing.T) {
 }
 
 func TestCheck(t *testing.T) {
-	for _, r := range records() {
+	for _, r := range sample.Records() {
 		if e := record.Check(r); e != api.OK {
 			t.Errorf("Check(%#v) = %d", r, e)
 		}
@@ -209,12 +75,12 @@ func TestCheck(t *testing.T) {
 			t.Errorf("Check(%#v) = %d", r, e)
 		}
 	}
-	for _, r := range largeRecords() {
+	for _, r := range sample.LargeRecords() {
 		if e := record.Check(r); e != api.ErrLarge {
 			t.Errorf("Check of %d fields = %d", len(r), e)
 		}
 	}
-	for _, r := range badRecords() {
+	for _, r := range sample.BadRecords() {
 		if e := record.Check(r); e != api.ErrArg {
 			t.Errorf("Check(%#v) = %d", r, e)
 		}
@@ -236,7 +102,7 @@ func TestPackIsTheKeyOfTheFields(t *testing.T) {
 			t.Errorf("Pack(%#v) = %x %d, not %x", c.r, s, e, c.want)
 		}
 	}
-	for _, r := range records() {
+	for _, r := range sample.Records() {
 		if s, e := record.Pack(r); s != sample.RowKey(r) || e != api.OK {
 			t.Errorf("Pack(%#v) = %x %d, not %x", r, s, e, sample.RowKey(r))
 		}
@@ -253,12 +119,12 @@ func TestPackErrors(t *testing.T) {
 		}
 	}
 	check(api.ErrArg, nil, api.Record{})
-	check(api.ErrLarge, largeRecords()...)
-	check(api.ErrArg, badRecords()...)
+	check(api.ErrLarge, sample.LargeRecords()...)
+	check(api.ErrArg, sample.BadRecords()...)
 }
 
 func TestUnpackReadsWhatPackWrites(t *testing.T) {
-	for _, want := range records() {
+	for _, want := range sample.Records() {
 		if r, e := record.Unpack(sample.RowKey(want)); !slices.Equal(r, want) || e != api.OK {
 			t.Errorf("Unpack(%x) = %#v %d, not %#v", sample.RowKey(want), r, e, want)
 		}
@@ -297,7 +163,7 @@ func TestUnpackErrors(t *testing.T) {
 
 func TestCheckIndexOfRightOnes(t *testing.T) {
 	for id := range api.MaxIndexes {
-		for _, l := range fieldLists() {
+		for _, l := range sample.FieldLists() {
 			if e := record.CheckIndex(api.Index{Id: id + 1, Fields: l}); e != api.OK {
 				t.Errorf("CheckIndex of %d, %v = %d", id+1, l, e)
 			}
@@ -326,13 +192,13 @@ func TestCheckIndexErrors(t *testing.T) {
 				t.Errorf("CheckIndex of %d, %v = %d, not %d", id, l, e, want)
 			}
 		}
-		for _, id := range badIds() {
+		for _, id := range sample.BadIds() {
 			if e := record.CheckIndex(api.Index{Id: id, Fields: l}); e != api.ErrArg {
 				t.Errorf("CheckIndex of %d, %v = %d", id, l, e)
 			}
 		}
 	}
-	if right != len(fieldLists()) {
+	if right != len(sample.FieldLists()) {
 		t.Errorf("%d lists are right", right)
 	}
 	for _, l := range [][]int{make([]int, 1<<20), {0, 1, 2, 3, 0, 1}, {9, 9, 9}} {
@@ -375,8 +241,8 @@ func TestShows(t *testing.T) {
 }
 
 func TestShowsOfAllIndexes(t *testing.T) {
-	for _, r := range records() {
-		for _, fields := range fieldLists() {
+	for _, r := range sample.Records() {
+		for _, fields := range sample.FieldLists() {
 			want, wantOk := []api.Val(nil), true
 			for _, n := range fields {
 				if n >= len(r) || r[n] == null() {
@@ -400,18 +266,18 @@ func TestShowsNothing(t *testing.T) {
 		}
 	}
 	right := api.Record{number(1), number(2), number(3), number(4)}
-	for _, id := range badIds() {
+	for _, id := range sample.BadIds() {
 		check(api.Index{Id: id, Fields: []int{0}}, right)
 	}
 	for _, l := range [][]int{nil, {}, {0, 0}, {-1}, {0, -1}, {api.MaxFields}, {0, math.MaxInt}, {math.MinInt, 1}, {0, 1, 2}, make([]int, 1000)} {
 		check(api.Index{Id: 1, Fields: l}, right)
 		check(api.Index{Id: 1, Fields: l}, nil)
 	}
-	for _, r := range slices.Concat([]api.Record{nil, {}}, largeRecords()) {
+	for _, r := range slices.Concat([]api.Record{nil, {}}, sample.LargeRecords()) {
 		check(api.Index{Id: 1, Fields: []int{0}}, r)
 	}
 	// Also if the field at fault isn't of the index.
-	for _, v := range badVals() {
+	for _, v := range sample.BadVals() {
 		check(api.Index{Id: 1, Fields: []int{0}}, api.Record{v})
 		check(api.Index{Id: 1, Fields: []int{0, 2}}, api.Record{number(1), v, number(3)})
 		check(api.Index{Id: 1, Fields: []int{0}}, api.Record{number(1), number(2), number(3), v})
@@ -426,8 +292,8 @@ func TestEntry(t *testing.T) {
 	}
 	for id := 1; id <= api.MaxIndexes; id++ {
 		for _, l := range shown() {
-			for _, key := range keys() {
-				if s, e := record.Entry(id, l, key); s != entryOf(id, l, key) || e != api.OK {
+			for _, key := range sample.Keys() {
+				if s, e := record.Entry(id, l, key); s != sample.Entry(id, l, key) || e != api.OK {
 					t.Errorf("Entry(%d, %#v, %q) = %x %d", id, l, key, s, e)
 				}
 			}
@@ -443,7 +309,7 @@ func TestEntryErrors(t *testing.T) {
 		}
 	}
 	one := []api.Val{number(1)}
-	bad := badVals()[0]
+	bad := sample.BadVals()[0]
 	large := [][]api.Val{
 		{number(1), number(2), number(3)},
 		{null(), null(), null()},
@@ -453,7 +319,7 @@ func TestEntryErrors(t *testing.T) {
 		slices.Repeat(one, 100000),
 	}
 	for _, key := range []string{"k", "", strings.Repeat("k", api.MaxKey+1)} {
-		for _, id := range badIds() {
+		for _, id := range sample.BadIds() {
 			check(id, one, key, api.ErrArg)
 			check(id, nil, key, api.ErrArg)
 			for _, l := range large[:4] {
@@ -466,7 +332,7 @@ func TestEntryErrors(t *testing.T) {
 			for _, l := range large[:5] {
 				check(id, l, key, api.ErrLarge)
 			}
-			for _, v := range append(badVals(), null()) {
+			for _, v := range append(sample.BadVals(), null()) {
 				check(id, []api.Val{v}, key, api.ErrArg)
 				check(id, []api.Val{v, number(1)}, key, api.ErrArg)
 				check(id, []api.Val{number(1), v}, key, api.ErrArg)
@@ -477,7 +343,7 @@ func TestEntryErrors(t *testing.T) {
 	if s, e := record.Entry(1, large[5], "k"); s != "" || e != api.ErrLarge {
 		t.Errorf("Entry of %d values = %x %d", len(large[5]), s, e)
 	}
-	for _, key := range badKeys() {
+	for _, key := range sample.BadKeys() {
 		check(1, one, key, api.ErrArg)
 		check(api.MaxIndexes, []api.Val{text("a"), text("b")}, key, api.ErrArg)
 	}
@@ -486,8 +352,8 @@ func TestEntryErrors(t *testing.T) {
 func TestParseReadsWhatEntryWrites(t *testing.T) {
 	for id := 1; id <= api.MaxIndexes; id++ {
 		for _, want := range shown() {
-			for _, wantKey := range keys() {
-				s := entryOf(id, want, wantKey)
+			for _, wantKey := range sample.Keys() {
+				s := sample.Entry(id, want, wantKey)
 				if got, l, key, e := record.Parse(s); got != id || !slices.Equal(l, want) || key != wantKey || e != api.OK {
 					t.Errorf("Parse(%x) = %d %#v %q %d", s, got, l, key, e)
 				}
@@ -549,7 +415,7 @@ func TestParseErrors(t *testing.T) {
 }
 
 func TestParseOfCutEntries(t *testing.T) {
-	s := entryOf(2, []api.Val{number(7), text("a")}, "k")
+	s := sample.Entry(2, []api.Val{number(7), text("a")}, "k")
 	for n := range len(s) {
 		want := api.ErrShort
 		switch n {
@@ -589,16 +455,16 @@ func TestEntryOfParseIsTheText(t *testing.T) {
 
 func TestLies(t *testing.T) {
 	rows := shown()
-	for i, low := range borders() {
-		for j, high := range borders() {
+	for i, low := range sample.Borders() {
+		for j, high := range sample.Borders() {
 			for _, l := range rows[(i+j)%5*len(rows)/5 : (i+j)%5*len(rows)/5+len(rows)/5] {
-				if got := record.Lies(l, low, high); got != liesIn(l, low, high) {
+				if got := record.Lies(l, low, high); got != sample.LiesIn(l, low, high) {
 					t.Errorf("Lies(%#v, %#v, %#v) = %t", l, low, high, got)
 				}
 			}
 		}
 	}
-	for _, l := range borders() {
+	for _, l := range sample.Borders() {
 		if !record.Lies(l, l, l) || !record.Lies(l, nil, nil) {
 			t.Errorf("%#v doesn't lie in what it borders", l)
 		}
@@ -607,7 +473,7 @@ func TestLies(t *testing.T) {
 
 func TestLiesOfWhatIsNoRow(t *testing.T) {
 	row := []api.Val{number(1)}
-	for _, no := range slices.Concat(badRecords(), largeRecords()) {
+	for _, no := range slices.Concat(sample.BadRecords(), sample.LargeRecords()) {
 		for _, other := range [][]api.Val{nil, row, {text("\xff")}} {
 			if record.Lies(no, other, other) || record.Lies(no, nil, other) || record.Lies(no, no, no) {
 				t.Errorf("%d values, of which one may not be, lie in an area", len(no))
@@ -641,19 +507,19 @@ func TestArea(t *testing.T) {
 
 func TestInAnAreaStandJustTheEntriesThatLieInIt(t *testing.T) {
 	rows := shown()
-	for i, low := range borders() {
-		for j, high := range borders() {
+	for i, low := range sample.Borders() {
+		for j, high := range sample.Borders() {
 			r, e := record.Area(3, low, high)
 			if e != api.OK {
 				t.Errorf("Area(3, %#v, %#v) has the error %d", low, high, e)
 			}
 			in := func(s string) bool { return s >= r.Lo && s < r.Hi }
 			for k := (i + j) % 7; k < len(rows); k += 7 {
-				l, key := rows[k], keys()[k%len(keys())]
-				if in(entryOf(3, l, key)) != liesIn(l, low, high) {
-					t.Errorf("the entry of %#v, %q stands in Area(3, %#v, %#v): %t", l, key, low, high, in(entryOf(3, l, key)))
+				l, key := rows[k], sample.Keys()[k%len(sample.Keys())]
+				if in(sample.Entry(3, l, key)) != sample.LiesIn(l, low, high) {
+					t.Errorf("the entry of %#v, %q stands in Area(3, %#v, %#v): %t", l, key, low, high, in(sample.Entry(3, l, key)))
 				}
-				if in(entryOf(2, l, key)) || in(entryOf(4, l, key)) {
+				if in(sample.Entry(2, l, key)) || in(sample.Entry(4, l, key)) {
 					t.Errorf("an entry of another index stands in Area(3, %#v, %#v)", low, high)
 				}
 			}
@@ -669,8 +535,8 @@ func TestAreaErrors(t *testing.T) {
 		}
 	}
 	row := []api.Val{number(1), null(), text("a"), null()}
-	for _, large := range largeRecords() {
-		for _, id := range badIds() {
+	for _, large := range sample.LargeRecords() {
+		for _, id := range sample.BadIds() {
 			check(id, row, row, api.ErrArg)
 			check(id, large, row, api.ErrArg)
 			check(id, row, large, api.ErrArg)
@@ -678,12 +544,12 @@ func TestAreaErrors(t *testing.T) {
 		check(1, large, row, api.ErrLarge)
 		check(6, row, large, api.ErrLarge)
 		check(6, nil, large, api.ErrLarge)
-		for _, bad := range badRecords() {
+		for _, bad := range sample.BadRecords() {
 			check(1, large, bad, api.ErrLarge)
 			check(1, bad, large, api.ErrArg)
 		}
 	}
-	for _, bad := range badRecords() {
+	for _, bad := range sample.BadRecords() {
 		check(1, bad, row, api.ErrArg)
 		check(1, row, bad, api.ErrArg)
 		check(1, bad, nil, api.ErrArg)
@@ -697,7 +563,7 @@ func TestEntriesStandByWhatIsShownThenByTheKeys(t *testing.T) {
 	last, count := "", 0
 	for id := 1; id <= api.MaxIndexes; id++ {
 		for _, l := range shown() {
-			for _, key := range keys() {
+			for _, key := range sample.Keys() {
 				s, e := record.Entry(id, l, key)
 				if e != api.OK || s <= last {
 					t.Errorf("the entry of %d, %#v, %q stands ahead of the one ahead: %d", id, l, key, e)
@@ -707,24 +573,12 @@ func TestEntriesStandByWhatIsShownThenByTheKeys(t *testing.T) {
 			}
 		}
 	}
-	if count != api.MaxIndexes*len(shown())*len(keys()) {
+	if count != api.MaxIndexes*len(shown())*len(sample.Keys()) {
 		t.Errorf("%d entries", count)
 	}
 }
 
 // P4.6, R4
-
-// inRoom is a list with others behind its length, and a test that all of them are as they were.
-func inRoom[T comparable](t *testing.T, inside []T, behind ...T) ([]T, func()) {
-	all := slices.Concat(inside, behind)
-	before := slices.Clone(all)
-	return all[:len(inside):len(all)], func() {
-		t.Helper()
-		if !slices.Equal(all, before) {
-			t.Errorf("%#v became %#v", before, all)
-		}
-	}
-}
 
 func behind() []api.Val {
 	return []api.Val{text("z"), {Kind: 9}, number(7), number(8), number(9)}
@@ -733,8 +587,8 @@ func behind() []api.Val {
 func TestWhatIsHandedInStays(t *testing.T) {
 	for _, row := range [][]api.Val{nil, {null()}, {number(1)}, {number(1), text("a\x00")}, {null(), null(), null(), null()}, {{Kind: 5}}} {
 		for _, fields := range [][]int{nil, {0}, {1, 0}, {9}, {0, 0}} {
-			l, check := inRoom(t, row, behind()...)
-			f, checkFields := inRoom(t, fields, 1, 2, 3)
+			l, check := sample.InRoom(t, row, behind()...)
+			f, checkFields := sample.InRoom(t, fields, 1, 2, 3)
 			record.Check(l)
 			record.Pack(l)
 			record.CheckIndex(api.Index{Id: 1, Fields: f})
@@ -758,9 +612,9 @@ func TestWhatIsHandedInStays(t *testing.T) {
 }
 
 func TestWhatLiesBehindTheLengthIsNotRead(t *testing.T) {
-	one, _ := inRoom(t, []api.Val{number(1)}, behind()...)
-	fields, _ := inRoom(t, []int{0}, 1, 2, 3)
-	none, _ := inRoom(t, nil, number(1), text("a"))
+	one, _ := sample.InRoom(t, []api.Val{number(1)}, behind()...)
+	fields, _ := sample.InRoom(t, []int{0}, 1, 2, 3)
+	none, _ := sample.InRoom(t, nil, number(1), text("a"))
 	if e := record.Check(one); e != api.OK {
 		t.Errorf("Check read on: %d", e)
 	}
@@ -779,7 +633,7 @@ func TestWhatLiesBehindTheLengthIsNotRead(t *testing.T) {
 	if l, ok := record.Shows(api.Index{Id: 1, Fields: fields}, one); !slices.Equal(l, []api.Val{number(1)}) || !ok {
 		t.Errorf("Shows read on: %#v %t", l, ok)
 	}
-	if s, e := record.Entry(1, one, "k"); s != entryOf(1, one, "k") || e != api.OK {
+	if s, e := record.Entry(1, one, "k"); s != sample.Entry(1, one, "k") || e != api.OK {
 		t.Errorf("Entry read on: %x %d", s, e)
 	}
 	if r, e := record.Area(1, one, none); r != (api.Range{Lo: "\x00\x01" + sample.RowKey(one), Hi: "\x00\x02"}) || e != api.OK {
@@ -837,7 +691,7 @@ func TestAnswersShareNothing(t *testing.T) {
 	for range 2 {
 		r, _ := record.Unpack(sample.RowKey(want))
 		shows, _ := record.Shows(x, r)
-		_, l, _, _ := record.Parse(entryOf(1, want[:2], "k"))
+		_, l, _, _ := record.Parse(sample.Entry(1, want[:2], "k"))
 		if !slices.Equal(r, want) || !slices.Equal(shows, want[1:3]) || !slices.Equal(l, want[:2]) {
 			t.Errorf("other answers became %#v, %#v and %#v", r, shows, l)
 		}
@@ -859,7 +713,7 @@ func TestNilAndNoElementsAreTheSame(t *testing.T) {
 	if record.CheckIndex(api.Index{Id: 1}) != record.CheckIndex(api.Index{Id: 1, Fields: []int{}}) {
 		t.Error("CheckIndex tells nil from no field")
 	}
-	for _, l := range borders() {
+	for _, l := range sample.Borders() {
 		one, e := record.Area(1, nil, l)
 		two, f := record.Area(1, []api.Val{}, l)
 		if one != two || e != f || record.Lies(l, nil, nil) != record.Lies(l, []api.Val{}, []api.Val{}) {
@@ -871,7 +725,7 @@ func TestNilAndNoElementsAreTheSame(t *testing.T) {
 // P1, R1, R8
 
 func TestAnyArgument(t *testing.T) {
-	rows := slices.Concat(borders(), [][]api.Val{{{Kind: 9}}, {{Kind: api.Text, S: strings.Repeat("\x00", 1<<16)}}, make([]api.Val, 1<<16)})
+	rows := slices.Concat(sample.Borders(), [][]api.Val{{{Kind: 9}}, {{Kind: api.Text, S: strings.Repeat("\x00", 1<<16)}}, make([]api.Val, 1<<16)})
 	indexes := []api.Index{{}, {Id: 1}, {Id: 1, Fields: []int{0}}, {Id: 6, Fields: []int{3, 1}}, {Id: math.MinInt, Fields: []int{math.MaxInt}}, {Id: 2, Fields: make([]int, 1<<16)}}
 	for i, l := range rows {
 		other := rows[(i*7+1)%len(rows)]
