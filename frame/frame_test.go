@@ -66,16 +66,6 @@ func whole(b []byte) (l [][]byte, n int) {
 	return l, n
 }
 
-// thrown is n bytes that dice threw.
-func thrown(n int) []byte {
-	d := sample.Dice(n)
-	b := make([]byte, n)
-	for i := range b {
-		b[i] = byte(d.Below(256))
-	}
-	return b
-}
-
 // payloads are some that may be: of no bytes, few and the most, of bytes alike and unlike, and such that look like frames.
 func payloads() [][]byte {
 	l := [][]byte{nil, {}, []byte("a"), []byte("bc"), []byte("123456789"), frameOf(nil), frameOf([]byte("a")), frameOf([]byte("a"))[:5], frames([][]byte{{1}, nil, {2, 3}})}
@@ -83,7 +73,7 @@ func payloads() [][]byte {
 		l = append(l, []byte{byte(c)})
 	}
 	for _, n := range []int{2, 3, 4, 7, 8, 9, 15, 16, 17, 127, 128, 255, 256, 257, 1000, 65535, 65536} {
-		l = append(l, make([]byte, n), bytes.Repeat([]byte{0xff}, n), thrown(n))
+		l = append(l, make([]byte, n), bytes.Repeat([]byte{0xff}, n), sample.Bytes(n))
 	}
 	return l
 }
@@ -102,7 +92,7 @@ func rows() [][][]byte {
 		{nil, nil, nil},
 		{[]byte("a"), []byte("bc"), nil, []byte("d"), []byte("e")},
 		{frameOf([]byte("a")), nil, frameOf(nil), make([]byte, 8), bytes.Repeat([]byte{0xff}, 8)},
-		{thrown(30), thrown(1), thrown(7), thrown(300)},
+		{sample.Bytes(30), sample.Bytes(1), sample.Bytes(7), sample.Bytes(300)},
 	}
 }
 
@@ -118,7 +108,7 @@ func tails() [][]byte {
 		bytes.Repeat([]byte{0xff}, 100),
 		turned,
 		frameOf([]byte("cut"))[:10],
-		frameOf(thrown(65537)),
+		frameOf(sample.Bytes(65537)),
 	}
 }
 
@@ -242,11 +232,11 @@ func TestFirstOfACutFrameIsShort(t *testing.T) {
 			checkFirst(t, wrong, nil, 0, api.ErrShort)
 		}
 	}
-	b := frameOf(thrown(65536))
+	b := frameOf(sample.Bytes(65536))
 	for _, n := range []int{0, 7, 8, 9, 65535, 65536, 65537, 65543} {
 		checkFirst(t, b[:n], nil, 0, api.ErrShort)
 	}
-	checkFirst(t, b, thrown(65536), 65544, api.OK)
+	checkFirst(t, b, sample.Bytes(65536), 65544, api.OK)
 }
 
 func TestFirstOfFewerThanEightBytesIsShortWhateverTheyTell(t *testing.T) {
@@ -259,7 +249,7 @@ func TestFirstOfFewerThanEightBytesIsShortWhateverTheyTell(t *testing.T) {
 
 func TestFirstOfTooMuchIsLarge(t *testing.T) {
 	for _, size := range []uint32{65537, 65538, 65792, 1 << 17, 1 << 24, math.MaxInt32, 1 << 31, 1<<31 + 1, math.MaxUint32 - 7, math.MaxUint32} {
-		for _, p := range [][]byte{nil, {1}, make([]byte, 100), thrown(65536)} {
+		for _, p := range [][]byte{nil, {1}, make([]byte, 100), sample.Bytes(65536)} {
 			// Asked ahead of what is missing, and of the sum.
 			b := frameThatTells(size, p)
 			checkFirst(t, b, nil, 0, api.ErrLarge)
@@ -274,7 +264,7 @@ func TestFirstOfTooMuchIsLarge(t *testing.T) {
 }
 
 func TestFirstOfATurnedBit(t *testing.T) {
-	for _, p := range append(smallPayloads(), thrown(300)) {
+	for _, p := range append(smallPayloads(), sample.Bytes(300)) {
 		b := frameOf(p)
 		for i := range 8 * len(b) {
 			turned := slices.Concat(b, make([]byte, 300))
@@ -292,7 +282,7 @@ func TestFirstOfATurnedBit(t *testing.T) {
 }
 
 func TestFirstAsksForTheSumOfTheLengthAndThePayload(t *testing.T) {
-	for _, p := range [][]byte{[]byte("a"), []byte("123456789"), thrown(100)} {
+	for _, p := range [][]byte{[]byte("a"), []byte("123456789"), sample.Bytes(100)} {
 		b := frameOf(p)
 		size, sum := b[:4], b[4:8]
 		little := binary.LittleEndian.AppendUint32(nil, binary.BigEndian.Uint32(sum))
@@ -362,10 +352,10 @@ func TestScanTellsFramesWithoutBytesToo(t *testing.T) {
 }
 
 func TestScanTellsFramesOfTheMostBytes(t *testing.T) {
-	l := [][]byte{thrown(65536), thrown(65535), thrown(65536)}
+	l := [][]byte{sample.Bytes(65536), sample.Bytes(65535), sample.Bytes(65536)}
 	b := frames(l)
 	checkScan(t, b, l, len(b))
-	checkScan(t, slices.Concat(b, frameOf(thrown(65537)), b), l, len(b))
+	checkScan(t, slices.Concat(b, frameOf(sample.Bytes(65537)), b), l, len(b))
 	checkScan(t, b[:len(b)-1], l[:2], 2*65536+15)
 }
 
@@ -375,7 +365,7 @@ func TestScanOfWhatDiceThrow(t *testing.T) {
 	for range 3000 {
 		var b []byte
 		for range d.Below(6) {
-			b = append(b, frameOf(thrown(d.Below(12)))...)
+			b = append(b, frameOf(sample.Bytes(d.Below(12)))...)
 			if d.Below(8) == 0 {
 				b = append(b, sample.Pick(&d, wrong[:5])...)
 			}
@@ -476,27 +466,19 @@ func TestNothingThatWasHandedInIsKept(t *testing.T) {
 	checkScan(t, b, nil, 0)
 }
 
-// spoil writes over all the memory that a list has, behind its length too.
-func spoil(b []byte) {
-	b = b[:cap(b)]
-	for i := range b {
-		b[i] ^= 0xff
-	}
-}
-
 func TestWhatIsAnsweredIsNew(t *testing.T) {
 	for _, p := range smallPayloads() {
 		b := frameOf(p)
 		payload, wrapped := bytes.Clone(p), bytes.Clone(b)
 		one, _ := frame.Wrap(payload)
 		two, _ := frame.Wrap(payload)
-		spoil(one)
+		sample.Spoil(one)
 		if !bytes.Equal(two, b) || !bytes.Equal(payload, p) {
 			t.Errorf("Wrap(%x) shares its answer: %x", p, two)
 		}
 		first, _, _ := frame.First(wrapped)
 		second, _, _ := frame.First(wrapped)
-		spoil(first)
+		sample.Spoil(first)
 		if !bytes.Equal(second, p) || !bytes.Equal(wrapped, b) {
 			t.Errorf("First(%x) shares its answer: %x", b, second)
 		}
@@ -510,7 +492,7 @@ func TestTheListsOfAScanShareNothing(t *testing.T) {
 		for i := range l {
 			list, _ := frame.Scan(handed)
 			other, _ := frame.Scan(handed)
-			spoil(list[i])
+			sample.Spoil(list[i])
 			list[i] = append(list[i], "grown behind its end"...)
 			for j, p := range l {
 				if j != i && !bytes.Equal(list[j], p) {

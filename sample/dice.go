@@ -14,3 +14,13 @@ func (d *Dice) Below(n int) int {
 func Pick[T any](d *Dice, l []T) T {
 	return l[d.Below(len(l))]
 }
+
+// Bytes are n bytes that dice threw.
+func Bytes(n int) []byte {
+	d := Dice(n)
+	b := make([]byte, n)
+	for i := range b {
+		b[i] = byte(d.Below(octet))
+	}
+	return b
+}

@@ -19,3 +19,11 @@ func InRoom[T comparable](t tester, inside []T, behind ...T) ([]T, func()) {
 		}
 	}
 }
+
+// Spoil writes over all the memory that a list of bytes has, behind its length too.
+func Spoil(b []byte) {
+	b = b[:cap(b)]
+	for i := range b {
+		b[i] ^= 0xff
+	}
+}
