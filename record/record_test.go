@@ -14,21 +14,6 @@ import (
 
 var null, number, text = sample.Null, sample.Int, sample.Text
 
-// lists are all lists of up to most numbers out of those given, the shorter ones first.
-func lists(most int, numbers ...int) [][]int {
-	all := [][]int{nil}
-	for from := 0; most > 0; most-- {
-		to := len(all)
-		for _, l := range all[from:to] {
-			for _, n := range numbers {
-				all = append(all, append(slices.Clone(l), n))
-			}
-		}
-		from = to
-	}
-	return all
-}
-
 // shown are rows that an index of one field or two can be shown, rising.
 func shown() [][]api.Val {
 	var l [][]api.Val
@@ -174,7 +159,7 @@ func TestCheckIndexOfRightOnes(t *testing.T) {
 func TestCheckIndexErrors(t *testing.T) {
 	numbers := []int{math.MinInt, -1, 0, 1, 2, 3, api.MaxFields, 64, 256, 1 << 32, math.MaxInt}
 	right := 0
-	for _, l := range lists(3, numbers...) {
+	for _, l := range sample.Lists(3, numbers...) {
 		want := api.OK
 		outside := slices.ContainsFunc(l, func(n int) bool { return n < 0 || n > 3 })
 		switch {
