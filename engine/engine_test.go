@@ -149,8 +149,8 @@ func TestRangesOfManyRuns(t *testing.T) {
 		all := batches(100+seed, 40, 6)
 		m := tableOf(all...)
 		for name, e := range built(t, all...) {
-			for _, lo := range edges() {
-				for _, hi := range edges() {
+			for _, lo := range sample.Edges() {
+				for _, hi := range sample.Edges() {
 					r := api.Range{Lo: lo, Hi: hi}
 					want := m.pairs(r)
 					n := len(want) / 2
@@ -507,7 +507,7 @@ func TestCutPartsThePairs(t *testing.T) {
 		m := tableOf(all...)
 		for name, e := range built(t, all...) {
 			runs, held := e.Runs(), e.Held()
-			for _, at := range edges() {
+			for _, at := range sample.Edges() {
 				low, high := e.Cut(at)
 				below, above := table{}, table{}
 				for key, val := range m {
@@ -559,7 +559,7 @@ func TestJoinHasThePairsOfBoth(t *testing.T) {
 		all := batches(600+seed, 5*seed, 8)
 		m := tableOf(all...)
 		for name, e := range built(t, all...) {
-			for _, at := range edges() {
+			for _, at := range sample.Edges() {
 				low, high := e.Cut(at)
 				checkHas(t, name+", joined", joined(t, low, high), m)
 			}

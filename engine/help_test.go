@@ -101,16 +101,11 @@ func few() []api.Change {
 	return []api.Change{put("", "0"), gone(""), put("a", "1"), put("a", ""), {Key: "a", Val: "2", Gone: true}, put("a\x00", "3"), put("b", "4"), gone("b")}
 }
 
-// edges are texts that keys may be, and that ranges may begin and end with.
-func edges() []string {
-	return []string{"", "\x00", "\x00\x00", "Z", "a", "a\x00", "a\x01", "aa", "ab", "b", "b\x00", "c", "z", "\x7f", "\x80", "ä", "\xff", "\xff\x00", "\xff\xff", strings.Repeat("\xff", 300)}
-}
-
 // thrown is a batch of up to most changes that dice throw, of few keys.
 func thrown(d *sample.Dice, most int) []api.Change {
 	var l []api.Change
 	for range d.Below(most + 1) {
-		c := put(sample.Pick(d, edges())+sample.Pick(d, []string{"", "", "\x00", "q"}), string(sample.Bytes(d.Below(4))))
+		c := put(sample.Pick(d, sample.Edges())+sample.Pick(d, []string{"", "", "\x00", "q"}), string(sample.Bytes(d.Below(4))))
 		c.Gone = d.Below(3) == 0
 		l = append(l, c)
 	}
@@ -232,7 +227,7 @@ func checkHas(t *testing.T, name string, e *engine.Engine, m table) {
 		checkGet(t, e, m, key)
 		checkGet(t, e, m, key+"\x00")
 	}
-	for _, key := range edges() {
+	for _, key := range sample.Edges() {
 		checkGet(t, e, m, key)
 	}
 	checkPairs(t, name+": Range", e.Range(api.Range{}, math.MaxInt), m.pairs(api.Range{}))

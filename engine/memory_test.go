@@ -18,15 +18,6 @@ func behind() []api.Change {
 	return []api.Change{put("a", "behind"), gone("b"), put("behind", "behind")}
 }
 
-// spoil writes over all the memory that a list has, behind its length too, and grows it.
-func spoil[T any](l []T, by T) {
-	l = l[:cap(l)]
-	for i := range l {
-		l[i] = by
-	}
-	_ = append(l, by)
-}
-
 // texts are a text whose bytes can be written over, and how that is done.
 func texts(s string) (text string, write func()) {
 	b := []byte(s)
@@ -63,7 +54,7 @@ func TestABatchIsNotKept(t *testing.T) {
 			batch = slices.Clone(batch)
 			e := engine.New(limit)
 			e.Put(batch)
-			spoil(batch, put("spoilt", "spoilt"))
+			sample.Overwrite(batch, put("spoilt", "spoilt"))
 			checkHas(t, "the batch was written over", e, m)
 			e.Compact()
 			checkHas(t, "the batch was written over, compacted", e, m)
@@ -126,8 +117,8 @@ func TestWhatIsAnsweredIsNew(t *testing.T) {
 	for name, e := range built(t, all...) {
 		one, two, part := e.Range(api.Range{}, math.MaxInt), e.Range(api.Range{}, len(want)), e.Range(api.Range{Lo: "a"}, 3)
 		c := e.Cursor(api.Range{})
-		spoil(one, api.Pair{Key: "spoilt", Val: "spoilt"})
-		spoil(part, api.Pair{Key: "spoilt", Val: "spoilt"})
+		sample.Overwrite(one, api.Pair{Key: "spoilt", Val: "spoilt"})
+		sample.Overwrite(part, api.Pair{Key: "spoilt", Val: "spoilt"})
 		checkPairs(t, name+": another answer", two, want)
 		checkPairs(t, name+": a cursor", drain(c), want)
 		b, other := e.Export(), e.Export()

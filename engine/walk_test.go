@@ -65,7 +65,7 @@ func (w *walk) pick() *both {
 }
 
 func (w *walk) text() string {
-	return sample.Pick(&w.dice, edges())
+	return sample.Pick(&w.dice, sample.Edges())
 }
 
 func (w *walk) number() int {

@@ -30,12 +30,9 @@ func askAll(l []api.Change) {
 	run.Pack(l)
 }
 
-// spoil writes over all the memory that a list of changes has, behind its length too.
+// spoil writes over all the memory that a list of changes has.
 func spoil(l []api.Change) {
-	l = l[:cap(l)]
-	for i := range l {
-		l[i] = api.Change{Key: "spoilt", Val: "spoilt", Gone: true}
-	}
+	sample.Overwrite(l, api.Change{Key: "spoilt", Val: "spoilt", Gone: true})
 }
 
 // P9.5, R4
@@ -107,7 +104,6 @@ func TestWhatIsAnsweredIsNew(t *testing.T) {
 		others := answersOf(l)
 		for _, got := range answersOf(l) {
 			spoil(got)
-			_ = append(got, put("grown", ""))
 		}
 		live := run.Live(l)
 		clear(live[:cap(live)])

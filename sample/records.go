@@ -44,6 +44,11 @@ func Keys() []string {
 	return []string{"\x00", "\x00\x00", "\x00\xff", "\x01", "0123456789abcdef", "a", "a\x00", "k", "ä", strings.Repeat("\xff", api.MaxKey)}
 }
 
+// Edges are texts that keys in a space may be, and that ranges may begin and end with.
+func Edges() []string {
+	return []string{"", "\x00", "\x00\x00", "Z", "a", "a\x00", "a\x01", "aa", "ab", "b", "b\x00", "c", "z", "\x7f", "\x80", "ä", "\xff", "\xff\x00", "\xff\xff", strings.Repeat("\xff", 300)}
+}
+
 // BadKeys are texts that are no key of a record.
 func BadKeys() []string {
 	return []string{"", strings.Repeat("k", api.MaxKey+1), strings.Repeat("\x00", api.MaxKey+1), strings.Repeat("ä", api.MaxKey/2) + "k", strings.Repeat("k", 100000)}

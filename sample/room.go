@@ -27,3 +27,11 @@ func Spoil(b []byte) {
 		b[i] ^= 0xff
 	}
 }
+
+// Overwrite writes over all the memory that a list has, behind its length too.
+func Overwrite[T any](l []T, by T) {
+	l = l[:cap(l)]
+	for i := range l {
+		l[i] = by
+	}
+}
