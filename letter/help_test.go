@@ -70,15 +70,6 @@ func mostOf(place int) int {
 	return mostNumber
 }
 
-// whole is a letter of which each field counts.
-func whole() api.Letter {
-	return api.Letter{
-		Kind: 1, From: 2, To: 3, A: 4, B: 5, C: 6, D: 7, Code: 8, Yes: true, S: "s", T: "tt", Body: "body",
-		Pairs:   []api.Pair{pair("a", "1"), pair("", "two")},
-		Intents: []api.Intent{intent("e", 9, true), intent("ee", 300, false), intent("", 0, true)},
-	}
-}
-
 // withText are letters that have a text at one place each.
 func withText(s string) []api.Letter {
 	return []api.Letter{
@@ -116,23 +107,23 @@ func sized(n int) []api.Letter {
 	body := func(l *api.Letter) *string { return &l.Body }
 	return []api.Letter{
 		filled(api.Letter{}, n, body),
-		filled(whole(), n, body),
+		filled(sample.Letter(), n, body),
 		filled(items(mostItems, mostItems), n, body),
 		filled(withVersion(api.Letter{}, mostItems, 7, mostNumber), n, body),
 		filled(api.Letter{}, n, func(l *api.Letter) *string { return &l.S }),
-		filled(whole(), n, func(l *api.Letter) *string { return &l.T }),
-		filled(whole(), n, func(l *api.Letter) *string { return &l.Pairs[1].Key }),
-		filled(whole(), n, func(l *api.Letter) *string { return &l.Pairs[0].Val }),
-		filled(whole(), n, func(l *api.Letter) *string { return &l.Intents[2].Entry }),
+		filled(sample.Letter(), n, func(l *api.Letter) *string { return &l.T }),
+		filled(sample.Letter(), n, func(l *api.Letter) *string { return &l.Pairs[1].Key }),
+		filled(sample.Letter(), n, func(l *api.Letter) *string { return &l.Pairs[0].Val }),
+		filled(sample.Letter(), n, func(l *api.Letter) *string { return &l.Intents[2].Entry }),
 	}
 }
 
 // smallLetters are right letters of all kinds, none of them like another, and none of them of many bytes.
 func smallLetters() []api.Letter {
-	l := []api.Letter{{}, {Yes: true}, whole(), {Kind: 1, To: 2, S: "a", Yes: true}}
+	l := []api.Letter{{}, {Yes: true}, sample.Letter(), {Kind: 1, To: 2, S: "a", Yes: true}}
 	for place := range places {
 		for _, n := range []int{20, 127, 128, 254, mostOf(place) - 2, mostOf(place)} {
-			l = append(l, withNumber(api.Letter{}, place, n), withNumber(whole(), place, n))
+			l = append(l, withNumber(api.Letter{}, place, n), withNumber(sample.Letter(), place, n))
 		}
 	}
 	for _, s := range []string{"\x00", "\x00\x00", "\x80", "\xff", "ä", "a\x00b", long(127), long(128)} {
@@ -185,11 +176,11 @@ func wrongLetters() []fault {
 	}
 	for place := range places {
 		for _, n := range badNumbers(place) {
-			l = append(l, fault{withNumber(api.Letter{}, place, n), api.ErrArg}, fault{withNumber(whole(), place, n), api.ErrArg})
+			l = append(l, fault{withNumber(api.Letter{}, place, n), api.ErrArg}, fault{withNumber(sample.Letter(), place, n), api.ErrArg})
 		}
 	}
 	for _, n := range badNumbers(1) {
-		l = append(l, fault{withVersion(api.Letter{}, 1, 0, n), api.ErrArg}, fault{withVersion(whole(), mostItems, mostItems-1, n), api.ErrArg})
+		l = append(l, fault{withVersion(api.Letter{}, 1, 0, n), api.ErrArg}, fault{withVersion(sample.Letter(), mostItems, mostItems-1, n), api.ErrArg})
 	}
 	return l
 }

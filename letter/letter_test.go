@@ -71,7 +71,7 @@ func TestPackIsTheForms(t *testing.T) {
 	}{
 		{api.Letter{}, "\x00\x00\x00\x00\x00\x00\x00\x00\x00\x00\x00\x00\x00\x00"},
 		{api.Letter{Kind: 1, To: 2, S: "a", Yes: true}, "\x01\x00\x02\x00\x00\x00\x00\x00\x01\x01a\x00\x00\x00\x00"},
-		{whole(), "\x01\x02\x03\x04\x05\x06\x07\x08\x01\x01s\x02tt\x04body\x02\x01a\x011\x00\x03two\x03\x01e\x09\x01\x02ee\xac\x02\x00\x00\x00\x01"},
+		{sample.Letter(), "\x01\x02\x03\x04\x05\x06\x07\x08\x01\x01s\x02tt\x04body\x02\x01a\x011\x00\x03two\x03\x01e\x09\x01\x02ee\xac\x02\x00\x00\x00\x01"},
 		{api.Letter{Kind: mostKind, D: mostNumber, Code: 300}, "\xff\x01\x00\x00\x00\x00\x00\x80\x80\x80\x80\x80\x20\xac\x02\x00\x00\x00\x00\x00\x00"},
 		{api.Letter{Body: long(128), Pairs: []api.Pair{pair("ä", "\x00\xff")}}, "\x00\x00\x00\x00\x00\x00\x00\x00\x00\x00\x00\x80\x01" + long(128) + "\x01\x02ä\x02\x00\xff\x00"},
 		{api.Letter{Pairs: make([]api.Pair, 128), Intents: make([]api.Intent, 1)}, "\x00\x00\x00\x00\x00\x00\x00\x00\x00\x00\x00\x00\x80\x01" + string(make([]byte, 256)) + "\x01\x00\x00\x00"},
@@ -129,11 +129,11 @@ func TestSameOfAllLetters(t *testing.T) {
 	for _, l := range rightLetters() {
 		checkSame(t, l, apart(l), true)
 		checkSame(t, l, api.Letter{}, alike(l, api.Letter{}))
-		checkSame(t, l, whole(), alike(l, whole()))
+		checkSame(t, l, sample.Letter(), alike(l, sample.Letter()))
 	}
 	for _, f := range wrongLetters() {
 		checkSame(t, f.l, apart(f.l), true)
-		checkSame(t, f.l, whole(), false)
+		checkSame(t, f.l, sample.Letter(), false)
 		checkSame(t, api.Letter{}, f.l, false)
 	}
 }
@@ -162,36 +162,36 @@ func others[T any](v T) []T {
 }
 
 func TestSameAsksEachField(t *testing.T) {
-	for _, l := range []api.Letter{{}, whole(), items(3, 300), {Kind: -1, A: math.MaxInt - 1, Code: -5}} {
+	for _, l := range []api.Letter{{}, sample.Letter(), items(3, 300), {Kind: -1, A: math.MaxInt - 1, Code: -5}} {
 		for _, other := range others(l) {
 			checkSame(t, l, other, false)
 			checkSame(t, other, l, false)
 			checkSame(t, other, apart(other), true)
 		}
 	}
-	for i, p := range whole().Pairs {
+	for i, p := range sample.Letter().Pairs {
 		for _, other := range others(p) {
-			l := whole()
+			l := sample.Letter()
 			l.Pairs[i] = other
-			checkSame(t, l, whole(), false)
+			checkSame(t, l, sample.Letter(), false)
 		}
 	}
-	for i, x := range whole().Intents {
+	for i, x := range sample.Letter().Intents {
 		for _, other := range others(x) {
-			l := whole()
+			l := sample.Letter()
 			l.Intents[i] = other
-			checkSame(t, l, whole(), false)
+			checkSame(t, l, sample.Letter(), false)
 		}
 	}
 }
 
 func TestSameAsksTheOrder(t *testing.T) {
-	l := whole()
+	l := sample.Letter()
 	slices.Reverse(l.Pairs)
-	checkSame(t, l, whole(), false)
-	l = whole()
+	checkSame(t, l, sample.Letter(), false)
+	l = sample.Letter()
 	slices.Reverse(l.Intents)
-	checkSame(t, whole(), l, false)
+	checkSame(t, sample.Letter(), l, false)
 	// What stands in one field counts for no other one.
 	checkSame(t, api.Letter{S: "a"}, api.Letter{T: "a"}, false)
 	checkSame(t, api.Letter{A: 1}, api.Letter{B: 1}, false)

@@ -12,22 +12,10 @@ import (
 	"shelfmark/sample"
 )
 
-// inRoom is a letter with other pairs and intents behind the lengths of its lists, and a test that all of them are as they were.
-func inRoom(t *testing.T, l api.Letter) (api.Letter, func()) {
-	pairs, checkPairs := sample.InRoom(t, l.Pairs, pair("behind", "behind"), pair(long(mostBytes), ""))
-	intents, checkIntents := sample.InRoom(t, l.Intents, intent("behind", 1, true), intent("behind", -1, true))
-	l.Pairs, l.Intents = pairs, intents
-	return l, func() {
-		t.Helper()
-		checkPairs()
-		checkIntents()
-	}
-}
-
 // askAll calls all that takes a letter, and tells the answers.
 func askAll(l api.Letter) string {
 	packed, e := letter.Pack(l)
-	return fmt.Sprintf("%d %q %d %t %t %s", letter.Check(l), packed, e, letter.Same(l, whole()), letter.Same(whole(), l), name(letter.Copy(l)))
+	return fmt.Sprintf("%d %q %d %t %t %s", letter.Check(l), packed, e, letter.Same(l, sample.Letter()), letter.Same(sample.Letter(), l), name(letter.Copy(l)))
 }
 
 // handedIn are letters of all kinds, right or not.
@@ -39,17 +27,11 @@ func handedIn() []api.Letter {
 	return l
 }
 
-// spoil writes over all the memory that a letter's lists have.
-func spoil(l api.Letter) {
-	sample.Overwrite(l.Pairs, pair("spoilt", "spoilt"))
-	sample.Overwrite(l.Intents, intent("spoilt", -1, true))
-}
-
 // P13.4, R4
 
 func TestWhatIsHandedInStays(t *testing.T) {
 	for _, inside := range handedIn() {
-		l, check := inRoom(t, inside)
+		l, check := sample.LetterInRoom(t, inside)
 		askAll(l)
 		letter.Same(l, apart(inside))
 		letter.Same(apart(inside), l)
@@ -59,11 +41,11 @@ func TestWhatIsHandedInStays(t *testing.T) {
 
 func TestWhatLiesBehindTheLengthIsNotRead(t *testing.T) {
 	for _, inside := range handedIn() {
-		l, _ := inRoom(t, inside)
+		l, _ := sample.LetterInRoom(t, inside)
 		if got, want := askAll(l), askAll(apart(inside)); got != want {
 			t.Errorf("%s reads on: %.300s, not %.300s", name(inside), got, want)
 		}
-		if other, _ := inRoom(t, inside); !letter.Same(l, other) || !letter.Same(l, apart(inside)) || !letter.Same(apart(inside), l) {
+		if other, _ := sample.LetterInRoom(t, inside); !letter.Same(l, other) || !letter.Same(l, apart(inside)) || !letter.Same(apart(inside), l) {
 			t.Errorf("Same of %s reads on", name(inside))
 		}
 		checkCopy(t, l)
@@ -74,11 +56,11 @@ func TestCopiesAreNew(t *testing.T) {
 	for _, inside := range handedIn() {
 		l := apart(inside)
 		one, two := letter.Copy(l), letter.Copy(l)
-		spoil(one)
+		sample.SpoilLetter(one)
 		checkLetter(t, "what was handed in", l, api.OK, inside, api.OK)
 		checkLetter(t, "another copy", two, api.OK, inside, api.OK)
 		// What was handed in may be written over then.
-		spoil(l)
+		sample.SpoilLetter(l)
 		checkLetter(t, "another copy", two, api.OK, inside, api.OK)
 	}
 }
@@ -88,7 +70,7 @@ func TestUnpackedLettersAreNew(t *testing.T) {
 		s := formOf(want)
 		one, _ := letter.Unpack(s)
 		two, _ := letter.Unpack(s)
-		spoil(one)
+		sample.SpoilLetter(one)
 		checkLetter(t, "another answer", two, api.OK, want, api.OK)
 		checkUnpack(t, s, want, api.OK)
 	}
@@ -96,7 +78,7 @@ func TestUnpackedLettersAreNew(t *testing.T) {
 
 // Where a list has no elements, no memory behind it comes along.
 func TestCopiesOfEmptyListsMayBeGrown(t *testing.T) {
-	l, check := inRoom(t, api.Letter{Kind: 1})
+	l, check := sample.LetterInRoom(t, api.Letter{Kind: 1})
 	got := letter.Copy(l)
 	got.Pairs = append(got.Pairs, pair("x", "y"))
 	got.Intents = append(got.Intents, intent("x", 1, true))
@@ -107,33 +89,27 @@ func TestCopiesOfEmptyListsMayBeGrown(t *testing.T) {
 }
 
 func TestAnswersMayBeGrown(t *testing.T) {
-	one, two := letter.Copy(whole()), letter.Copy(whole())
+	one, two := letter.Copy(sample.Letter()), letter.Copy(sample.Letter())
 	one.Pairs = append(one.Pairs, pair("x", "y"))
 	one.Intents = append(one.Intents[:1], intent("x", 1, true))
-	checkLetter(t, "another copy", two, api.OK, whole(), api.OK)
-	one, _ = letter.Unpack(formOf(whole()))
+	checkLetter(t, "another copy", two, api.OK, sample.Letter(), api.OK)
+	one, _ = letter.Unpack(formOf(sample.Letter()))
 	one.Pairs = append(one.Pairs, pair("x", "y"))
 	one.Intents = append(one.Intents, intent("x", 1, true))
-	want := whole()
+	want := sample.Letter()
 	checkLetter(t, "a grown letter", one, api.OK, api.Letter{
 		Kind: 1, From: 2, To: 3, A: 4, B: 5, C: 6, D: 7, Code: 8, Yes: true, S: "s", T: "tt", Body: "body",
 		Pairs: append(want.Pairs, pair("x", "y")), Intents: append(want.Intents, intent("x", 1, true)),
 	}, api.OK)
 }
 
-// inMemory is a letter whose texts lie in memory that may be written over.
-func inMemory() (api.Letter, []byte) {
-	b := []byte("stbodykeyvalentry")
-	line := unsafe.String(&b[0], len(b))
-	return api.Letter{S: line[:1], T: line[1:2], Body: line[2:6], Pairs: []api.Pair{pair(line[6:9], line[9:12])}, Intents: []api.Intent{intent(line[12:], 1, true)}}, b
-}
-
 func TestTextsOfAnswersAreNew(t *testing.T) {
-	l, b := inMemory()
+	b := []byte("one line of one text.")
+	want := sample.LetterOf(string(b))
+	l := sample.LetterOf(unsafe.String(&b[0], len(b)))
 	got := letter.Copy(l)
 	packed, e := letter.Pack(l)
 	sample.Spoil(b)
-	want := api.Letter{S: "s", T: "t", Body: "body", Pairs: []api.Pair{pair("key", "val")}, Intents: []api.Intent{intent("entry", 1, true)}}
 	checkLetter(t, "Copy", got, api.OK, want, api.OK)
 	if packed != formOf(want) || e != api.OK {
 		t.Errorf("Pack became %x, %d", packed, e)
@@ -156,7 +132,7 @@ func TestTextsOfOneAnswerAreApart(t *testing.T) {
 	unpacked, _ := letter.Unpack(formOf(l))
 	for _, got := range []api.Letter{letter.Copy(l), unpacked} {
 		var at []*byte
-		for _, text := range []string{got.S, got.T, got.Body, got.Pairs[0].Key, got.Pairs[0].Val, got.Intents[0].Entry, got.Intents[1].Entry} {
+		for _, text := range sample.Texts(got) {
 			p := unsafe.StringData(text)
 			if slices.Contains(at, p) || p == unsafe.StringData(s) {
 				t.Errorf("%q stands twice in one memory", text)

@@ -34,7 +34,7 @@ func TestUnpackOfWhatIsCutOff(t *testing.T) {
 
 func TestUnpackOfWhatHasSomethingLeft(t *testing.T) {
 	for _, l := range append(smallLetters(), items(mostItems, mostItems)) {
-		for _, behind := range []string{"\x00", "\x01", "\x80", "\xff\xff", formOf(whole())} {
+		for _, behind := range []string{"\x00", "\x01", "\x80", "\xff\xff", formOf(sample.Letter())} {
 			checkUnpack(t, formOf(l)+behind, api.Letter{}, api.ErrForm)
 		}
 	}
