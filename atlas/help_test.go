@@ -1,7 +1,6 @@
 package atlas_test
 
 import (
-	"encoding/binary"
 	"fmt"
 	"maps"
 	"math"
@@ -291,16 +290,11 @@ func moveOf(t *testing.T, m api.Map, key string, node int) (api.Map, api.Errno) 
 	return after(m, begins, node < 1 || node > mostNodes || node == nodeOf(t, m, key))
 }
 
-// num is a number's form, by the library.
-func num(n int) string {
-	return string(binary.AppendUvarint(nil, uint64(n)))
-}
-
 // formOf is a map as a text, whether it is right or not; numbers below 0 have no form.
 func formOf(m api.Map) string {
-	b := []byte(num(m.Epoch) + num(len(m.Parts)))
+	b := []byte(sample.NumForm(m.Epoch) + sample.NumForm(len(m.Parts)))
 	for _, p := range m.Parts {
-		b = append(b, num(len(p.Lo))+p.Lo+num(p.Node)...)
+		b = append(b, sample.NumForm(len(p.Lo))+p.Lo+sample.NumForm(p.Node)...)
 	}
 	return string(b)
 }

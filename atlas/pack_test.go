@@ -82,8 +82,8 @@ func TestUnpackOfWhatIsNoRightMap(t *testing.T) {
 
 func TestUnpackErrorsInTheirOrder(t *testing.T) {
 	const nine = "\xff\xff\xff\xff\xff\xff\xff\xff\xff"
-	most := num(math.MaxInt)
-	tooLong := num(mostBytes + 1)
+	most := sample.NumForm(math.MaxInt)
+	tooLong := sample.NumForm(mostBytes + 1)
 	for _, c := range []struct {
 		s string
 		e api.Errno
@@ -117,10 +117,10 @@ func TestUnpackErrorsInTheirOrder(t *testing.T) {
 		{"\x01\x01" + tooLong, api.ErrLarge},
 		{"\x01\x01" + tooLong + long(mostBytes+1) + "\x01", api.ErrLarge},
 		{"\x01\x01" + most, api.ErrLarge},
-		{"\x01\x01" + num(mostBytes), api.ErrShort},
-		{"\x01\x01" + num(mostBytes) + long(mostBytes-1), api.ErrShort},
-		{"\x01\x01" + num(mostBytes) + long(mostBytes), api.ErrShort},
-		{"\x01\x01" + num(mostBytes) + long(mostBytes) + "\x01", api.ErrPlan},
+		{"\x01\x01" + sample.NumForm(mostBytes), api.ErrShort},
+		{"\x01\x01" + sample.NumForm(mostBytes) + long(mostBytes-1), api.ErrShort},
+		{"\x01\x01" + sample.NumForm(mostBytes) + long(mostBytes), api.ErrShort},
+		{"\x01\x01" + sample.NumForm(mostBytes) + long(mostBytes) + "\x01", api.ErrPlan},
 		// A Node.
 		{"\x01\x01\x00", api.ErrShort},
 		{"\x01\x01\x00\x80", api.ErrShort},
@@ -146,11 +146,11 @@ func TestUnpackErrorsInTheirOrder(t *testing.T) {
 		{"\x00\x00", api.ErrArg},
 		{"\x00\x01\x00\x01", api.ErrArg},
 		{"\x00\x01\x00\x00", api.ErrArg},
-		{num(lastEpoch+1) + "\x01\x00\x01", api.ErrArg},
-		{num(lastEpoch+1) + "\x01\x01a\x05", api.ErrArg},
+		{sample.NumForm(lastEpoch+1) + "\x01\x00\x01", api.ErrArg},
+		{sample.NumForm(lastEpoch+1) + "\x01\x01a\x05", api.ErrArg},
 		{most + "\x00", api.ErrArg},
 		{"\x01\x00", api.ErrPlan},
-		{num(lastEpoch) + "\x00", api.ErrPlan},
+		{sample.NumForm(lastEpoch) + "\x00", api.ErrPlan},
 		{"\x01\x01\x00\x00", api.ErrPlan},
 		{"\x01\x01\x00\x05", api.ErrPlan},
 		{"\x01\x01\x00" + most, api.ErrPlan},

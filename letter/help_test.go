@@ -1,7 +1,6 @@
 package letter_test
 
 import (
-	"encoding/binary"
 	"fmt"
 	"math"
 	"reflect"
@@ -95,7 +94,7 @@ func items(pairs, intents int) api.Letter {
 func filled(l api.Letter, n int, at func(l *api.Letter) *string) api.Letter {
 	*at(&l) = ""
 	rest := n - len(formOf(l))
-	*at(&l) = long(rest - len(num(rest)) + 1)
+	*at(&l) = long(rest - len(sample.NumForm(rest)) + 1)
 	if len(formOf(l)) != n {
 		panic("such a letter can't be made")
 	}
@@ -185,15 +184,6 @@ func wrongLetters() []fault {
 	return l
 }
 
-// num is a number's form, by the library.
-func num(n int) string {
-	return string(binary.AppendUvarint(nil, uint64(n)))
-}
-
-func text(s string) string {
-	return num(len(s)) + s
-}
-
 func flag(yes bool) string {
 	return map[bool]string{false: "\x00", true: "\x01"}[yes]
 }
@@ -202,15 +192,15 @@ func flag(yes bool) string {
 func formOf(l api.Letter) string {
 	var s strings.Builder
 	for _, n := range numbersOf(l) {
-		s.WriteString(num(n))
+		s.WriteString(sample.NumForm(n))
 	}
-	s.WriteString(flag(l.Yes) + text(l.S) + text(l.T) + text(l.Body) + num(len(l.Pairs)))
+	s.WriteString(flag(l.Yes) + sample.TextForm(l.S) + sample.TextForm(l.T) + sample.TextForm(l.Body) + sample.NumForm(len(l.Pairs)))
 	for _, p := range l.Pairs {
-		s.WriteString(text(p.Key) + text(p.Val))
+		s.WriteString(sample.TextForm(p.Key) + sample.TextForm(p.Val))
 	}
-	s.WriteString(num(len(l.Intents)))
+	s.WriteString(sample.NumForm(len(l.Intents)))
 	for _, i := range l.Intents {
-		s.WriteString(text(i.Entry) + num(i.Version) + flag(i.Gone))
+		s.WriteString(sample.TextForm(i.Entry) + sample.NumForm(i.Version) + flag(i.Gone))
 	}
 	return s.String()
 }

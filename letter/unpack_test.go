@@ -109,7 +109,7 @@ func TestUnpackErrorsAtEachPlace(t *testing.T) {
 
 func TestUnpackNumbersAtTheirLimits(t *testing.T) {
 	for place := range places {
-		at := func(n int) string { return zeros(place) + num(n) + zeros(forms-place-1) }
+		at := func(n int) string { return zeros(place) + sample.NumForm(n) + zeros(forms-place-1) }
 		for _, n := range []int{0, 1, 127, 128, mostOf(place) - 1, mostOf(place)} {
 			checkUnpack(t, at(n), withNumber(api.Letter{}, place, n), api.OK)
 		}
@@ -119,7 +119,7 @@ func TestUnpackNumbersAtTheirLimits(t *testing.T) {
 			}
 			checkUnpack(t, at(n), api.Letter{}, api.ErrForm)
 			// Ahead of what is missing behind it.
-			checkUnpack(t, zeros(place)+num(n), api.Letter{}, api.ErrForm)
+			checkUnpack(t, zeros(place)+sample.NumForm(n), api.Letter{}, api.ErrForm)
 		}
 	}
 }
@@ -131,21 +131,21 @@ func TestUnpackNumbersThatSayYesOrNo(t *testing.T) {
 	checkUnpack(t, entry+"\x00", api.Letter{Intents: []api.Intent{intent("e", 7, false)}}, api.OK)
 	checkUnpack(t, entry+"\x01", api.Letter{Intents: []api.Intent{intent("e", 7, true)}}, api.OK)
 	for _, n := range []int{2, 3, 127, 128, 255, 256, 257, mostNumber, mostNumber + 1, math.MaxInt} {
-		checkUnpack(t, zeros(yesPlace)+num(n)+zeros(forms-yesPlace-1), api.Letter{}, api.ErrForm)
-		checkUnpack(t, zeros(yesPlace)+num(n), api.Letter{}, api.ErrForm)
-		checkUnpack(t, entry+num(n), api.Letter{}, api.ErrForm)
+		checkUnpack(t, zeros(yesPlace)+sample.NumForm(n)+zeros(forms-yesPlace-1), api.Letter{}, api.ErrForm)
+		checkUnpack(t, zeros(yesPlace)+sample.NumForm(n), api.Letter{}, api.ErrForm)
+		checkUnpack(t, entry+sample.NumForm(n), api.Letter{}, api.ErrForm)
 	}
 }
 
 func TestUnpackVersionsAtTheirLimits(t *testing.T) {
 	begin := zeros(intentPlace) + "\x02\x01e\x07\x01\x00"
 	for _, n := range []int{0, 1, 128, mostNumber - 1, mostNumber} {
-		checkUnpack(t, begin+num(n)+"\x00", api.Letter{Intents: []api.Intent{intent("e", 7, true), intent("", n, false)}}, api.OK)
+		checkUnpack(t, begin+sample.NumForm(n)+"\x00", api.Letter{Intents: []api.Intent{intent("e", 7, true), intent("", n, false)}}, api.OK)
 	}
 	for _, n := range []int{mostNumber + 1, mostNumber + 2, 1 << 41, math.MaxInt} {
-		checkUnpack(t, begin+num(n)+"\x00", api.Letter{}, api.ErrForm)
-		checkUnpack(t, begin+num(n), api.Letter{}, api.ErrForm)
-		checkUnpack(t, begin+num(n)+"\x80\x00", api.Letter{}, api.ErrForm)
+		checkUnpack(t, begin+sample.NumForm(n)+"\x00", api.Letter{}, api.ErrForm)
+		checkUnpack(t, begin+sample.NumForm(n), api.Letter{}, api.ErrForm)
+		checkUnpack(t, begin+sample.NumForm(n)+"\x80\x00", api.Letter{}, api.ErrForm)
 	}
 }
 
@@ -153,14 +153,14 @@ func TestUnpackVersionsAtTheirLimits(t *testing.T) {
 func TestUnpackTextsOfAnyLength(t *testing.T) {
 	for place := textPlace; place < pairsPlace; place++ {
 		for _, n := range []int{1, 127, 128, mostBytes, mostBytes + 1, 1 << 30, mostNumber + 1, math.MaxInt} {
-			checkUnpack(t, zeros(place)+num(n), api.Letter{}, api.ErrShort)
-			checkUnpack(t, zeros(place)+num(n)+long(min(n-1, 1000)), api.Letter{}, api.ErrShort)
+			checkUnpack(t, zeros(place)+sample.NumForm(n), api.Letter{}, api.ErrShort)
+			checkUnpack(t, zeros(place)+sample.NumForm(n)+long(min(n-1, 1000)), api.Letter{}, api.ErrShort)
 		}
 	}
 	for _, n := range []int{1, 128, mostBytes + 1, mostNumber + 1, math.MaxInt} {
-		checkUnpack(t, zeros(pairsPlace)+"\x01"+num(n), api.Letter{}, api.ErrShort)
-		checkUnpack(t, zeros(pairsPlace)+"\x01\x01a"+num(n), api.Letter{}, api.ErrShort)
-		checkUnpack(t, zeros(intentPlace)+"\x01"+num(n), api.Letter{}, api.ErrShort)
+		checkUnpack(t, zeros(pairsPlace)+"\x01"+sample.NumForm(n), api.Letter{}, api.ErrShort)
+		checkUnpack(t, zeros(pairsPlace)+"\x01\x01a"+sample.NumForm(n), api.Letter{}, api.ErrShort)
+		checkUnpack(t, zeros(intentPlace)+"\x01"+sample.NumForm(n), api.Letter{}, api.ErrShort)
 	}
 }
 
@@ -169,27 +169,27 @@ func TestUnpackOfHowMany(t *testing.T) {
 	// Too many: asked when their number is read, ahead of all that is missing or wrong behind it.
 	for _, n := range []int{mostItems + 1, mostItems + 2, 1000, 1 << 20, mostNumber} {
 		for _, behind := range []string{"", "\x80\x00", nine, zeros(1000)} {
-			checkUnpack(t, pairs+num(n)+behind, api.Letter{}, api.ErrLarge)
-			checkUnpack(t, intents+num(n)+behind, api.Letter{}, api.ErrLarge)
+			checkUnpack(t, pairs+sample.NumForm(n)+behind, api.Letter{}, api.ErrLarge)
+			checkUnpack(t, intents+sample.NumForm(n)+behind, api.Letter{}, api.ErrLarge)
 		}
 	}
 	// A number that no letter has is named ahead of too many.
 	for _, n := range []int{mostNumber + 1, 1 << 41, math.MaxInt} {
-		checkUnpack(t, pairs+num(n), api.Letter{}, api.ErrForm)
-		checkUnpack(t, intents+num(n)+zeros(1000), api.Letter{}, api.ErrForm)
+		checkUnpack(t, pairs+sample.NumForm(n), api.Letter{}, api.ErrForm)
+		checkUnpack(t, intents+sample.NumForm(n)+zeros(1000), api.Letter{}, api.ErrForm)
 	}
-	checkUnpack(t, pairs+num(mostItems), api.Letter{}, api.ErrShort)
-	checkUnpack(t, pairs+num(mostItems)+zeros(2*mostItems), api.Letter{}, api.ErrShort)
-	checkUnpack(t, pairs+num(mostItems)+zeros(2*mostItems+1), api.Letter{Pairs: make([]api.Pair, mostItems)}, api.OK)
-	checkUnpack(t, pairs+num(mostItems)+zeros(2*mostItems)+num(mostItems+1), api.Letter{}, api.ErrLarge)
-	checkUnpack(t, intents+num(mostItems), api.Letter{}, api.ErrShort)
-	checkUnpack(t, intents+num(mostItems)+zeros(3*mostItems), api.Letter{Intents: make([]api.Intent, mostItems)}, api.OK)
-	checkUnpack(t, intents+num(mostItems)+zeros(3*mostItems+1), api.Letter{}, api.ErrForm)
+	checkUnpack(t, pairs+sample.NumForm(mostItems), api.Letter{}, api.ErrShort)
+	checkUnpack(t, pairs+sample.NumForm(mostItems)+zeros(2*mostItems), api.Letter{}, api.ErrShort)
+	checkUnpack(t, pairs+sample.NumForm(mostItems)+zeros(2*mostItems+1), api.Letter{Pairs: make([]api.Pair, mostItems)}, api.OK)
+	checkUnpack(t, pairs+sample.NumForm(mostItems)+zeros(2*mostItems)+sample.NumForm(mostItems+1), api.Letter{}, api.ErrLarge)
+	checkUnpack(t, intents+sample.NumForm(mostItems), api.Letter{}, api.ErrShort)
+	checkUnpack(t, intents+sample.NumForm(mostItems)+zeros(3*mostItems), api.Letter{Intents: make([]api.Intent, mostItems)}, api.OK)
+	checkUnpack(t, intents+sample.NumForm(mostItems)+zeros(3*mostItems+1), api.Letter{}, api.ErrForm)
 }
 
 // What is wrong with an earlier form is named, whatever is wrong with a later one.
 func TestUnpackErrorsInTheirOrder(t *testing.T) {
-	tooMany, large := num(mostItems+1), num(mostNumber+1)
+	tooMany, large := sample.NumForm(mostItems+1), sample.NumForm(mostNumber+1)
 	for _, c := range []struct {
 		s string
 		e api.Errno
