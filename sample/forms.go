@@ -1,10 +1,16 @@
 package sample
 
-import "encoding/binary"
+// seven is how many numbers the lowest seven bits of a byte tell apart, and the bit above them.
+const seven = 1 << 7
 
-// NumForm is the form of a number from 0 on (chapter 1), by the library.
+// NumForm is the form of a number from 0 on (chapter 1).
 func NumForm(n int) string {
-	return string(binary.AppendUvarint(nil, uint64(n)))
+	var b []byte
+	rest := uint64(n)
+	for ; rest >= seven; rest /= seven {
+		b = append(b, byte(rest%seven+seven))
+	}
+	return string(append(b, byte(rest)))
 }
 
 // TextForm is the form of a text.
