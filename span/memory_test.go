@@ -20,15 +20,15 @@ func behind() []api.Range {
 // lists are lists of ranges of all kinds: some are sorted and some aren't, some have ranges without texts, some are a least form.
 func lists() [][]api.Range {
 	d := sample.Dice(114)
-	l := append(sample.Lists(2, ranges("", "a", "b")...), empties(), []api.Range{from("m", "n"), from("c", "d"), from("d", "c"), from("d", "e")})
+	l := append(sample.Lists(2, sample.Ranges("", "a", "b")...), sample.EmptyRanges(), []api.Range{from("m", "n"), from("c", "d"), from("d", "c"), from("d", "e")})
 	for range 200 {
-		l = append(l, thrown(&d, 30))
+		l = append(l, sample.ThrownRanges(&d, 30))
 	}
 	return l
 }
 
 func others() []api.Range {
-	return append(empties(), api.Range{}, from("a", "b"), from("", "b"), from("a\x00", ""))
+	return append(sample.EmptyRanges(), api.Range{}, from("a", "b"), from("", "b"), from("a\x00", ""))
 }
 
 // answersOf are all the lists that are answered of a set.
@@ -135,7 +135,7 @@ func TestAnyArgument(t *testing.T) {
 	d := sample.Dice(115)
 	texts := append(sample.Edges(), string(sample.Bytes(300)), strings.Repeat("k", 1<<16))
 	for range 4000 {
-		l, r := thrown(&d, 25), thrownRange(&d)
+		l, r := sample.ThrownRanges(&d, 25), sample.ThrownRange(&d)
 		s, other := sample.Pick(&d, texts), from(sample.Pick(&d, texts), sample.Pick(&d, texts))
 		l = append(l, other)
 		tell := func() string {

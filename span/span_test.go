@@ -14,7 +14,7 @@ import (
 // P11.1
 
 func TestEmptyOfRangesWithoutTexts(t *testing.T) {
-	for _, r := range empties() {
+	for _, r := range sample.EmptyRanges() {
 		if !span.Empty(r) {
 			t.Errorf("%s isn't empty", name(r))
 		}
@@ -34,9 +34,9 @@ func TestEmptyOfRangesWithTexts(t *testing.T) {
 }
 
 func TestEmptyOfAllRanges(t *testing.T) {
-	for _, r := range ranges(sample.Edges()...) {
+	for _, r := range sample.Ranges(sample.Edges()...) {
 		// A range that has a text has its Lo.
-		if got := span.Empty(r); got == inRange(r, r.Lo) {
+		if got := span.Empty(r); got == sample.InRange(r, r.Lo) {
 			t.Errorf("Empty(%s) = %t", name(r), got)
 		}
 	}
@@ -82,10 +82,10 @@ func TestHasFromLoOnAndBelowHi(t *testing.T) {
 }
 
 func TestHasOfAllRanges(t *testing.T) {
-	for _, r := range ranges(sample.Edges()...) {
+	for _, r := range sample.Ranges(sample.Edges()...) {
 		for _, edge := range sample.Edges() {
 			for _, s := range []string{edge, edge + "\x00", edge + "\xff"} {
-				if got := span.Has(r, s); got != inRange(r, s) {
+				if got := span.Has(r, s); got != sample.InRange(r, s) {
 					t.Errorf("Has(%s, %.50q) = %t", name(r), s, got)
 				}
 			}
@@ -125,7 +125,7 @@ func TestMeetOfWhatHasNothingInCommon(t *testing.T) {
 		{from("a", "b"), from("b", "c")}, {from("a", "b"), from("c", "d")}, {from("", "b"), from("b", "")}, {from("", "\x00"), from("\x00", "")},
 		{from("a", "a\x00"), from("a\x00", "")}, {from("a", "Z"), from("", "")},
 	}
-	for _, r := range empties() {
+	for _, r := range sample.EmptyRanges() {
 		l = append(l, [2]api.Range{r, r}, [2]api.Range{r, {}}, [2]api.Range{r, from("a", "")}, [2]api.Range{r, from("", "\xff")})
 	}
 	for _, c := range l {
@@ -137,7 +137,7 @@ func TestMeetOfWhatHasNothingInCommon(t *testing.T) {
 }
 
 func TestMeetOfAllRanges(t *testing.T) {
-	all := ranges(sample.Edges()...)
+	all := sample.Ranges(sample.Edges()...)
 	for _, a := range all {
 		for _, b := range all {
 			checkMeet(t, a, b)
@@ -184,7 +184,7 @@ func TestLeastIsTheFewestRanges(t *testing.T) {
 	} {
 		checkRanges(t, "Least("+name(c.l...)+")", span.Least(c.l), c.want)
 	}
-	checkRanges(t, "Least of ranges without texts", span.Least(empties()), nil)
+	checkRanges(t, "Least of ranges without texts", span.Least(sample.EmptyRanges()), nil)
 }
 
 func TestCoversEachTextOfTheRange(t *testing.T) {
@@ -218,7 +218,7 @@ func TestCoversEachTextOfTheRange(t *testing.T) {
 		{nil, from("", ""), false},
 		{nil, from("a", "b"), false},
 		{nil, from("", "\x00"), false},
-		{empties(), from("a", "b"), false},
+		{sample.EmptyRanges(), from("a", "b"), false},
 	} {
 		if got := span.Covers(c.l, c.r); got != c.want {
 			t.Errorf("Covers(%s, %s) = %t", name(c.l...), name(c.r), got)
@@ -227,8 +227,8 @@ func TestCoversEachTextOfTheRange(t *testing.T) {
 }
 
 func TestCoversARangeWithoutTexts(t *testing.T) {
-	for _, l := range [][]api.Range{nil, {}, {{}}, {from("a", "b")}, {from("x", "y"), from("z", "")}, empties()} {
-		for _, r := range empties() {
+	for _, l := range [][]api.Range{nil, {}, {{}}, {from("a", "b")}, {from("x", "y"), from("z", "")}, sample.EmptyRanges()} {
+		for _, r := range sample.EmptyRanges() {
 			if !span.Covers(l, r) {
 				t.Errorf("Covers(%s, %s) = false", name(l...), name(r))
 			}
@@ -263,23 +263,23 @@ func TestMinusIsTheSetWithoutTheRange(t *testing.T) {
 		// One of two that overlap has what the range takes from the other.
 		{[]api.Range{from("a", "d"), from("b", "f")}, from("c", "e"), []api.Range{from("a", "c"), from("e", "f")}},
 		{nil, from("a", "b"), nil},
-		{empties(), from("a", "b"), nil},
+		{sample.EmptyRanges(), from("a", "b"), nil},
 	} {
 		checkRanges(t, "Minus("+name(c.l...)+", "+name(c.r)+")", span.Minus(c.l, c.r), c.want)
 	}
 }
 
 func TestMinusARangeWithoutTextsIsTheLeastForm(t *testing.T) {
-	for _, l := range [][]api.Range{nil, {{}}, {from("c", "e"), from("a", "c")}, {from("", "b"), from("b", "")}, {from("a", ""), from("\xff", "b")}, ranges("", "a", "z")} {
-		for _, r := range empties() {
-			checkRanges(t, "Minus("+name(l...)+", "+name(r)+")", span.Minus(l, r), leastOf(l))
+	for _, l := range [][]api.Range{nil, {{}}, {from("c", "e"), from("a", "c")}, {from("", "b"), from("b", "")}, {from("a", ""), from("\xff", "b")}, sample.Ranges("", "a", "z")} {
+		for _, r := range sample.EmptyRanges() {
+			checkRanges(t, "Minus("+name(l...)+", "+name(r)+")", span.Minus(l, r), sample.Least(l))
 		}
 	}
 }
 
 func TestAllSmallSets(t *testing.T) {
 	for _, ends := range [][]string{{"", "a", "b", "c"}, {"", "\x00", "a", "a\x00"}, {"a", "aa", "b", "\xff"}} {
-		all := ranges(ends...)
+		all := sample.Ranges(ends...)
 		for _, l := range sample.Lists(3, all...) {
 			checkSet(t, l, all...)
 		}
@@ -287,7 +287,7 @@ func TestAllSmallSets(t *testing.T) {
 }
 
 func TestSetsOfTwoAmidMoreEnds(t *testing.T) {
-	all := ranges("", "a", "b", "b\x00", "c", "d")
+	all := sample.Ranges("", "a", "b", "b\x00", "c", "d")
 	for _, l := range sample.Lists(2, all...) {
 		checkSet(t, l, all...)
 	}
@@ -296,15 +296,15 @@ func TestSetsOfTwoAmidMoreEnds(t *testing.T) {
 func TestSetsThatDiceThrow(t *testing.T) {
 	d := sample.Dice(11)
 	for i := range 6000 {
-		l := thrown(&d, 2+i%40)
-		checkSet(t, l, append(thrown(&d, 6), l...)...)
+		l := sample.ThrownRanges(&d, 2+i%40)
+		checkSet(t, l, append(sample.ThrownRanges(&d, 6), l...)...)
 	}
 }
 
 func TestALeastFormIsAsDescribed(t *testing.T) {
 	d := sample.Dice(112)
 	for range 3000 {
-		l := thrown(&d, 20)
+		l := sample.ThrownRanges(&d, 20)
 		least := span.Least(l)
 		for i, r := range least {
 			if span.Empty(r) {
@@ -316,7 +316,7 @@ func TestALeastFormIsAsDescribed(t *testing.T) {
 		}
 		for _, edge := range sample.Edges() {
 			for _, s := range []string{edge, edge + "\x00", edge + "q\xff"} {
-				if inSet(least, s) != inSet(l, s) {
+				if sample.InSet(least, s) != sample.InSet(l, s) {
 					t.Errorf("Least(%s) = %s: it is otherwise with %.20q", name(l...), name(least...), s)
 				}
 			}
