@@ -22,6 +22,8 @@ const (
 	mostBytes  = 65536
 )
 
+var intent = sample.Intent
+
 // The numbers of a letter, by their places in its bytes.
 const (
 	places    = 8
@@ -30,10 +32,6 @@ const (
 
 func pair(key, val string) api.Pair {
 	return api.Pair{Key: key, Val: val}
-}
-
-func intent(entry string, version int, gone bool) api.Intent {
-	return api.Intent{Entry: entry, Version: version, Gone: gone}
 }
 
 // long is a text of n bytes.

@@ -15,6 +15,11 @@ func Letter() api.Letter {
 	}
 }
 
+// Intent says of an entry whether it is gone as of a version.
+func Intent(entry string, version int, gone bool) api.Intent {
+	return api.Intent{Entry: entry, Version: version, Gone: gone}
+}
+
 // LetterOf is a letter whose texts are pieces of a line, each of three bytes: so they lie where the line lies.
 func LetterOf(line string) api.Letter {
 	return api.Letter{
